@@ -1,0 +1,105 @@
+package tussle
+
+import (
+	"math"
+	"runtime"
+	"sync"
+	"sync/atomic"
+	"testing"
+
+	"tussle/api"
+)
+
+// calls is each call of a store, with a number.
+func calls() map[string]func(s *Store, n int) {
+	return map[string]func(s *Store, n int){
+		"Tick":  func(s *Store, n int) { s.Tick(n) },
+		"Admit": func(s *Store, n int) { s.Admit([]api.Op{{Kind: n & 7, A: n, B: n & 3, C: n}}) },
+		"Step":  func(s *Store, n int) { s.Step(n) },
+		"Call":  func(s *Store, n int) { s.Call(n) },
+		"Txn":   func(s *Store, n int) { s.Txn(n) },
+		"Locks": func(s *Store, n int) { s.Locks(n) },
+		"Rows":  func(s *Store, n int) { s.Rows() },
+		"Wins":  func(s *Store, n int) { s.Wins() },
+	}
+}
+
+func TestEachCallWaitsForTheMutex(t *testing.T) {
+	for name, call := range calls() {
+		s := busy(t, 1)
+		var done atomic.Bool
+		begun, ended := make(chan int), make(chan int)
+		s.mutex.Lock()
+		go func() {
+			close(begun)
+			call(s, 1)
+			done.Store(true)
+			close(ended)
+		}()
+		<-begun
+		for range 2000 {
+			runtime.Gosched()
+		}
+		if done.Load() {
+			t.Errorf("%s does not wait for the mutex", name)
+		}
+		s.mutex.Unlock()
+		<-ended
+	}
+}
+
+// With good numbers and bad ones, so that the ways out by an error are gone, too.
+func TestEachCallLetsTheMutexGo(t *testing.T) {
+	for name, call := range calls() {
+		for _, n := range []int{math.MinInt, -1, 0, 1, 2, 3, 13, math.MaxInt} {
+			s := busy(t, 1)
+			call(s, n)
+			if !s.mutex.TryLock() {
+				t.Errorf("%s(%d) keeps the mutex", name, n)
+			}
+		}
+	}
+}
+
+func TestNoCallPanicsInAnyOrder(t *testing.T) {
+	numbers := []int{math.MinInt, -1, 0, 1, 2, 12, 13, api.MaxClock - 1, api.MaxClock, api.MaxClock + 1, math.MaxInt}
+	for first, one := range calls() {
+		for second, other := range calls() {
+			s := busy(t, 3)
+			for _, n := range numbers {
+				for _, m := range numbers {
+					one(s, n)
+					other(s, m)
+				}
+			}
+			if s.clock < 0 || s.clock > api.MaxClock || s.living < 0 || s.living > api.MaxTxns {
+				t.Errorf("%s and %s: clock %d, living %d", first, second, s.clock, s.living)
+			}
+		}
+	}
+}
+
+func TestCallsOfSeveralGoroutines(t *testing.T) {
+	const workers, ticks = 8, 5000
+	s := busy(t, 0)
+	var group sync.WaitGroup
+	for range workers {
+		group.Go(func() {
+			for range ticks {
+				s.Tick(1)
+				s.Rows()
+			}
+			s.Admit(nil)
+			s.Admit(nil)
+		})
+	}
+	group.Wait()
+	if want := 100 + workers*ticks + api.MaxTxns; s.clock != want || len(s.txns) != api.MaxTxns {
+		t.Errorf("clock %d, want %d; %d transactions", s.clock, want, len(s.txns))
+	}
+	for i := 1; i < len(s.txns); i++ {
+		if s.txns[i].stamp <= s.txns[i-1].stamp {
+			t.Errorf("the stamps %d and %d of two that follow one another", s.txns[i-1].stamp, s.txns[i].stamp)
+		}
+	}
+}
