@@ -51,8 +51,8 @@ func TestEachCallWaitsForTheMutex(t *testing.T) {
 // With good numbers and bad ones, so that the ways out by an error are gone, too.
 func TestEachCallLetsTheMutexGo(t *testing.T) {
 	for name, call := range calls() {
-		for _, n := range []int{math.MinInt, -1, 0, 1, 2, 3, 13, math.MaxInt} {
-			s := busy(t, 1)
+		for _, n := range []int{math.MinInt, -1, 0, 1, 2, 3, 4, 5, 6, 8, 13, math.MaxInt} {
+			s := tussled(t)
 			call(s, n)
 			if !s.mutex.TryLock() {
 				t.Errorf("%s(%d) keeps the mutex", name, n)
@@ -62,10 +62,10 @@ func TestEachCallLetsTheMutexGo(t *testing.T) {
 }
 
 func TestNoCallPanicsInAnyOrder(t *testing.T) {
-	numbers := []int{math.MinInt, -1, 0, 1, 2, 12, 13, api.MaxClock - 1, api.MaxClock, api.MaxClock + 1, math.MaxInt}
+	numbers := []int{math.MinInt, -1, 0, 1, 2, 3, 4, 5, 6, 12, 13, api.MaxClock - 1, api.MaxClock, api.MaxClock + 1, math.MaxInt}
 	for first, one := range calls() {
 		for second, other := range calls() {
-			s := busy(t, 3)
+			s := tussled(t)
 			for _, n := range numbers {
 				for _, m := range numbers {
 					one(s, n)
@@ -101,5 +101,31 @@ func TestCallsOfSeveralGoroutines(t *testing.T) {
 		if s.txns[i].stamp <= s.txns[i-1].stamp {
 			t.Errorf("the stamps %d and %d of two that follow one another", s.txns[i-1].stamp, s.txns[i].stamp)
 		}
+	}
+}
+
+// Each of them adds 1 to the same row: a step that came in between would be lost.
+func TestStepsOfSeveralGoroutines(t *testing.T) {
+	s := busy(t, 0)
+	for range api.MaxTxns {
+		s.Admit([]api.Op{{Kind: api.Read, A: 0, B: 3}, {Kind: api.Add, A: 3, B: 0, C: 1}, {Kind: api.Write, A: 0, B: 3}})
+	}
+	var group sync.WaitGroup
+	for id := 1; id <= api.MaxTxns; id++ {
+		group.Go(func() {
+			for range 1_000_000 { // far more than are needed, so that the test ends when the steps lead nowhere
+				if _, e := s.Step(id); e != api.OK {
+					return
+				}
+				s.Locks(0)
+				s.Wins()
+				s.Txn(id)
+				s.Rows()
+			}
+		})
+	}
+	group.Wait()
+	if s.values[0] != 2+api.MaxTxns || len(s.wins) != api.MaxTxns || s.living != 0 {
+		t.Errorf("the row 0 has %d; %v committed; %d live", s.values[0], s.wins, s.living)
 	}
 }

@@ -1,8 +1,10 @@
 package tussle_test
 
 import (
+	"fmt"
 	"math"
 	"slices"
+	"strings"
 	"testing"
 
 	"tussle/api"
@@ -84,4 +86,96 @@ func mustBeUnknown(t *testing.T, s *tussle.Store, id int) {
 	if e != api.ErrTxn || !blank {
 		t.Errorf("Txn(%d) = %+v, %d, want nothing, ErrTxn", id, x, e)
 	}
+}
+
+// mustStep makes a step of a transaction for each answer that is wanted.
+func mustStep(t *testing.T, s *tussle.Store, id int, wants ...int) {
+	t.Helper()
+	for i, want := range wants {
+		if did, e := s.Step(id); did != want || e != api.OK {
+			t.Fatalf("step %d of %d: %d, %d, want %d, OK", i+1, id, did, e, want)
+		}
+	}
+}
+
+func mustNotStep(t *testing.T, s *tussle.Store, id int, want api.Errno) {
+	t.Helper()
+	if did, e := s.Step(id); did != 0 || e != want {
+		t.Errorf("Step(%d) = %d, %d, want 0, %d", id, did, e, want)
+	}
+}
+
+// written writes locks as numbers with S for Shared, W for Whole.
+func written(locks []api.Lock) string {
+	var words []string
+	for _, lock := range locks {
+		mode := map[int]string{api.Shared: "S", api.Whole: "W"}[lock.Mode]
+		words = append(words, fmt.Sprint(lock.Txn, mode))
+	}
+	return strings.ReplaceAll(strings.Join(words, ","), " ", "")
+}
+
+// mustHaveLocks wants holders and waiters as written writes them.
+func mustHaveLocks(t *testing.T, s *tussle.Store, row int, holders, waiters string) {
+	t.Helper()
+	h, w := s.Locks(row)
+	if written(h) != holders || written(w) != waiters {
+		t.Errorf("Locks(%d): %s hold, %s wait, want %s and %s", row, written(h), written(w), holders, waiters)
+	}
+}
+
+// those are the numbers of the transactions of which something is told.
+func those(s *tussle.Store, is func(x api.Txn) bool) []int {
+	var ids []int
+	for id := 1; ; id++ {
+		x, e := s.Txn(id)
+		if e != api.OK {
+			return ids
+		}
+		if is(x) {
+			ids = append(ids, id)
+		}
+	}
+}
+
+// mustBeWounded: these are, and no other one is.
+func mustBeWounded(t *testing.T, s *tussle.Store, want ...int) {
+	t.Helper()
+	if got := those(s, func(x api.Txn) bool { return x.Wounded }); !slices.Equal(got, want) {
+		t.Errorf("%v are wounded, want %v", got, want)
+	}
+}
+
+// mustWait: these do, and no other one does.
+func mustWait(t *testing.T, s *tussle.Store, want ...int) {
+	t.Helper()
+	if got := those(s, func(x api.Txn) bool { return x.Waiting }); !slices.Equal(got, want) {
+		t.Errorf("%v wait, want %v", got, want)
+	}
+}
+
+func mustHaveWon(t *testing.T, s *tussle.Store, want ...int) {
+	t.Helper()
+	if got := s.Wins(); !slices.Equal(got, want) {
+		t.Errorf("Wins() = %v, want %v", got, want)
+	}
+}
+
+// mustBeTold: want without registers means that all of them are 0.
+func mustBeTold(t *testing.T, s *tussle.Store, id int, want api.Txn) {
+	t.Helper()
+	got, e := s.Txn(id)
+	if len(want.Registers) == 0 {
+		want.Registers = make([]int, api.Registers)
+	}
+	if e != api.OK || !sameTxn(got, want) {
+		t.Errorf("Txn(%d) = %+v, %d, want %+v", id, got, e, want)
+	}
+}
+
+func sameTxn(x, y api.Txn) bool {
+	if !slices.Equal(x.Registers, y.Registers) || !slices.Equal(x.Reads, y.Reads) {
+		return false
+	}
+	return x.Stamp == y.Stamp && x.State == y.State && x.Next == y.Next && x.Wounded == y.Wounded && x.Waiting == y.Waiting && x.Agains == y.Agains
 }

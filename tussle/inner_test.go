@@ -15,14 +15,22 @@ type kept struct {
 	clock, living int
 	values        map[int]int
 	txns          []transaction
+	deferred      []int // how much each transaction has deferred: functions can't be compared
+	holds         map[hold]int
+	queues        map[int][]api.Lock
+	wins          []int
 }
 
 func keptBy(s *Store) kept {
-	k := kept{clock: s.clock, living: s.living, values: maps.Clone(s.values)}
+	k := kept{clock: s.clock, living: s.living, values: maps.Clone(s.values), holds: maps.Clone(s.holds), queues: maps.Clone(s.queues), wins: slices.Clone(s.wins)}
+	for row, queue := range k.queues {
+		k.queues[row] = slices.Clone(queue)
+	}
 	for _, t := range s.txns {
 		c := *t
-		c.ops, c.reads = slices.Clone(t.ops), slices.Clone(t.reads)
+		c.ops, c.reads, c.deferred = slices.Clone(t.ops), slices.Clone(t.reads), nil
 		k.txns = append(k.txns, c)
+		k.deferred = append(k.deferred, len(t.deferred))
 	}
 	return k
 }
@@ -39,6 +47,30 @@ func busy(t *testing.T, txns int) *Store {
 		if _, e := s.Admit([]api.Op{{Kind: api.Read, A: i, B: 1}, {Kind: api.Delete, A: i}}); e != api.OK {
 			t.Fatalf("Admit: %d", e)
 		}
+	}
+	return s
+}
+
+// tussled is a store in which 1 has committed and 2 has stopped; 3 holds the row 0; 5 holds the row 5 and is wounded by 4, which waits for it; 6 and 7 wait for the row 0.
+func tussled(t *testing.T) *Store {
+	t.Helper()
+	s := busy(t, 0)
+	for _, ops := range [][]api.Op{
+		{{Kind: api.Read, A: 0, B: 1}, {Kind: api.Write, A: 0, B: 1}},
+		{{Kind: api.Delete, A: 0}, {Kind: api.Stop}},
+		{{Kind: api.Write, A: 0}, {Kind: api.Delete, A: 0}, {Kind: api.Read, A: 1}},
+		{{Kind: api.Read, A: 5, B: 2}},
+		{{Kind: api.Write, A: 5}},
+		{{Kind: api.Read, A: 0, B: 2}},
+		{{Kind: api.Write, A: 0, B: 2}},
+	} {
+		s.Admit(ops)
+	}
+	for _, id := range []int{1, 1, 1, 2, 2, 3, 3, 5, 4, 6, 7} {
+		s.Step(id)
+	}
+	if !s.txns[4].wounded || !s.txns[3].waiting || len(s.queues[0]) != 2 || len(s.txns[2].deferred) != 2 {
+		t.Fatalf("not as it was to be: %+v", keptBy(s))
 	}
 	return s
 }
@@ -62,7 +94,13 @@ func TestAnErrorChangesNothing(t *testing.T) {
 		{"Admit of no register", busy(t, 2), api.ErrOp, func(s *Store) api.Errno { return admitted(s, append(right, api.Op{Kind: api.Stop, A: 4})) }},
 		{"Admit when full", busy(t, 12), api.ErrFull, func(s *Store) api.Errno { return admitted(s, right) }},
 		{"Admit at the end", late, api.ErrClock, func(s *Store) api.Errno { return admitted(s, right) }},
+		{"Admit when some wait", tussled(t), api.ErrOp, func(s *Store) api.Errno { return admitted(s, []api.Op{{}}) }},
 		{"Txn of none", busy(t, 2), api.ErrTxn, func(s *Store) api.Errno { _, e := s.Txn(3); return e }},
+		{"Step of none", tussled(t), api.ErrTxn, func(s *Store) api.Errno { return stepped(s, 8) }},
+		{"Step of 0", tussled(t), api.ErrTxn, func(s *Store) api.Errno { return stepped(s, 0) }},
+		{"Step of the least", tussled(t), api.ErrTxn, func(s *Store) api.Errno { return stepped(s, math.MinInt) }},
+		{"Step of one that committed", tussled(t), api.ErrEnded, func(s *Store) api.Errno { return stepped(s, 1) }},
+		{"Step of one that stopped", tussled(t), api.ErrEnded, func(s *Store) api.Errno { return stepped(s, 2) }},
 	} {
 		before := keptBy(c.s)
 		if e := c.call(c.s); e != c.want {
@@ -79,13 +117,20 @@ func admitted(s *Store, ops []api.Op) api.Errno {
 	return e
 }
 
+func stepped(s *Store, id int) api.Errno {
+	_, e := s.Step(id)
+	return e
+}
+
 func TestTellingChangesNothing(t *testing.T) {
-	s := busy(t, 3)
+	s := tussled(t)
 	before := keptBy(s)
 	s.Rows()
 	s.Wins()
-	s.Locks(0)
-	s.Txn(1)
+	for n := range 9 {
+		s.Locks(n)
+		s.Txn(n)
+	}
 	s.Tick(0)
 	if after := keptBy(s); !reflect.DeepEqual(before, after) {
 		t.Errorf("changed from %+v to %+v", before, after)
@@ -113,7 +158,7 @@ func TestAdmitKeepsItsOwnOperations(t *testing.T) {
 
 func TestNewKeepsRowsAndAClockAtZero(t *testing.T) {
 	s, _ := New([]api.Row{{Key: 5, Value: 6}})
-	want := kept{values: map[int]int{5: 6}}
+	want := kept{values: map[int]int{5: 6}, holds: map[hold]int{}, queues: map[int][]api.Lock{}}
 	if got := keptBy(s); !reflect.DeepEqual(got, want) {
 		t.Errorf("New keeps %+v, want %+v", got, want)
 	}
@@ -121,7 +166,7 @@ func TestNewKeepsRowsAndAClockAtZero(t *testing.T) {
 
 // gone is a transaction of which each thing that Txn tells is set, to a value of its own.
 func gone() *transaction {
-	return &transaction{stamp: 11, state: api.Called, agains: 3, next: 2, registers: [4]int{5, -6, math.MaxInt, math.MinInt}, reads: append(make([]api.Seen, 0, 8), api.Seen{Key: 9, There: true, Value: 4}, api.Seen{Key: 1})}
+	return &transaction{stamp: 11, state: api.Called, agains: 3, attempt: attempt{next: 2, registers: [4]int{5, -6, math.MaxInt, math.MinInt}, reads: append(make([]api.Seen, 0, 8), api.Seen{Key: 9, There: true, Value: 4}, api.Seen{Key: 1})}}
 }
 
 func TestTxnTellsAllOfATransaction(t *testing.T) {
@@ -163,15 +208,34 @@ func TestWhatTxnTellsIsTheCallers(t *testing.T) {
 	}
 }
 
-// The limit is one of those that live: one that has ended makes room, but its number is not given again.
-func TestAdmitCountsThoseThatLive(t *testing.T) {
-	s := busy(t, 12)
-	s.txns[4].state = api.Won
-	s.living--
-	if id, e := s.Admit(nil); id != 13 || e != api.OK {
-		t.Errorf("Admit = %d, %d, want 13, OK", id, e)
+// One that waits asks for nothing anew: it stands in its queue once, and wounds nobody who came later.
+func TestAStepThatWaitsOnChangesNothing(t *testing.T) {
+	s := tussled(t)
+	before := keptBy(s)
+	for _, id := range []int{4, 6, 7, 4} {
+		if did, e := s.Step(id); did != api.Waits || e != api.OK {
+			t.Errorf("Step(%d) = %d, %d, want Waits", id, did, e)
+		}
 	}
-	if id, e := s.Admit(nil); id != 0 || e != api.ErrFull {
-		t.Errorf("Admit = %d, %d, want 0, ErrFull", id, e)
+	if after := keptBy(s); !reflect.DeepEqual(before, after) {
+		t.Errorf("changed from %+v to %+v", before, after)
+	}
+}
+
+// What no call can ask for any more is not kept.
+func TestNothingIsLeftOfThoseThatEnded(t *testing.T) {
+	s := tussled(t)
+	for range 20 {
+		for id := range s.txns {
+			s.Step(id + 1)
+		}
+	}
+	if s.living != 0 || len(s.holds) != 0 || len(s.queues) != 0 {
+		t.Errorf("left: %d that live, %v held, %v waited for", s.living, s.holds, s.queues)
+	}
+	for _, x := range s.txns {
+		if x.state == api.Lives || x.ops != nil || x.deferred != nil {
+			t.Errorf("%d keeps %v and %d deferred, in the state %d", x.number, x.ops, len(x.deferred), x.state)
+		}
 	}
 }

@@ -2,21 +2,28 @@ package tussle
 
 import "tussle/api"
 
-// transaction: the fields from next on are the attempt's, and begin again with it; those ahead of it stay.
+// transaction: its operations are kept only while it lives.
 type transaction struct {
-	ops       []api.Op
-	stamp     int
-	state     int
-	agains    int
+	number int
+	ops    []api.Op
+	stamp  int
+	state  int
+	agains int
+	attempt
+}
+
+// attempt is all that begins anew when a transaction begins again.
+type attempt struct {
 	next      int
 	wounded   bool
 	waiting   bool
 	registers [api.Registers]int
 	reads     []api.Seen
+	deferred  []func() // what undoes its changes of rows, in the order of the changes
 }
 
-func newTransaction(ops []api.Op, stamp int) *transaction {
-	return &transaction{ops: fresh(ops), stamp: stamp, state: api.Lives}
+func newTransaction(number int, ops []api.Op, stamp int) *transaction {
+	return &transaction{number: number, ops: fresh(ops), stamp: stamp, state: api.Lives}
 }
 
 // find answers nil if there never was a transaction with this number.
@@ -25,6 +32,17 @@ func (s *Store) find(id int) *transaction {
 		return nil
 	}
 	return s.txns[id-1]
+}
+
+func (s *Store) findLiving(id int) (*transaction, api.Errno) {
+	t := s.find(id)
+	switch {
+	case t == nil:
+		return nil, api.ErrTxn
+	case t.state != api.Lives:
+		return nil, api.ErrEnded
+	}
+	return t, api.OK
 }
 
 func (t *transaction) told() api.Txn {

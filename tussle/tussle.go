@@ -11,9 +11,12 @@ import (
 type Store struct {
 	mutex  sync.Mutex
 	clock  int
-	values map[int]int    // of each row that is there, by its key
-	txns   []*transaction // the one with the number n stands at n-1
-	living int            // counted, so that Admit need not look at all that have ended
+	values map[int]int        // of each row that is there, by its key
+	txns   []*transaction     // the one with the number n stands at n-1
+	living int                // counted, so that Admit need not look at all that have ended
+	holds  map[hold]int       // the mode in which a row is held by a transaction
+	queues map[int][]api.Lock // of each row that somebody waits for, by its key
+	wins   []int
 }
 
 // New makes a store with some rows (P3).
@@ -21,7 +24,11 @@ func New(rows []api.Row) (*Store, api.Errno) {
 	if !keysRise(rows) {
 		return nil, api.ErrOrder
 	}
-	return &Store{values: valuesByKey(rows)}, api.OK
+	return &Store{
+		values: valuesByKey(rows),
+		holds:  map[hold]int{},
+		queues: map[int][]api.Lock{},
+	}, api.OK
 }
 
 // Tick moves the clock on (P4).
@@ -45,15 +52,20 @@ func (s *Store) Admit(ops []api.Op) (int, api.Errno) {
 	}
 	s.clock++
 	s.living++
-	s.txns = append(s.txns, newTransaction(ops, s.clock))
-	return len(s.txns), api.OK
+	t := newTransaction(len(s.txns)+1, ops, s.clock)
+	s.txns = append(s.txns, t)
+	return t.number, api.OK
 }
 
 // Step does one step of a transaction (P5 to P7).
 func (s *Store) Step(id int) (int, api.Errno) {
 	s.mutex.Lock()
 	defer s.mutex.Unlock()
-	return 0, api.OK
+	t, e := s.findLiving(id)
+	if e != api.OK {
+		return 0, e
+	}
+	return s.step(t), api.OK
 }
 
 // Call calls a transaction off (P8).
@@ -78,7 +90,7 @@ func (s *Store) Txn(id int) (api.Txn, api.Errno) {
 func (s *Store) Locks(key int) ([]api.Lock, []api.Lock) {
 	s.mutex.Lock()
 	defer s.mutex.Unlock()
-	return nil, nil
+	return s.holders(key), fresh(s.queues[key])
 }
 
 // Rows tells the rows (P9).
@@ -92,5 +104,5 @@ func (s *Store) Rows() []api.Row {
 func (s *Store) Wins() []int {
 	s.mutex.Lock()
 	defer s.mutex.Unlock()
-	return nil
+	return fresh(s.wins)
 }
