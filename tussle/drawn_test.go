@@ -1,6 +1,7 @@
 package tussle_test
 
 import (
+	"fmt"
 	"math"
 	"math/rand/v2"
 	"slices"
@@ -18,7 +19,16 @@ type drawn struct {
 	m     *model
 	first []api.Row
 	keys  []int // that operations may name
+
+	called map[at]int // how many were called off, by what they were at
 }
+
+// at is what a transaction is at when it is called off.
+type at struct {
+	wounded, waiting bool
+}
+
+func (x *modelTxn) at() at { return at{x.Wounded, x.Waiting} }
 
 func draw(t *testing.T, seed uint64) *drawn {
 	d := &drawn{t: t, r: rand.New(rand.NewPCG(seed, 1)), keys: []int{0}}
@@ -63,35 +73,56 @@ func (d *drawn) living() []int {
 	return those(d.s, func(x api.Txn) bool { return x.State == api.Lives })
 }
 
-// step holds all that is to be seen against the model, and against what is promised of every state.
 func (d *drawn) step(id int) {
+	d.t.Helper()
+	d.watch(fmt.Sprint("step of ", id), func() {
+		if did, e := d.s.Step(id); e != api.OK || did != d.m.step(id) {
+			d.t.Fatalf("step of %d: %d, %d: not so in the model", id, did, e)
+		}
+	})
+}
+
+func (d *drawn) call(id int) {
+	d.t.Helper()
+	d.watch(fmt.Sprint("call of ", id), func() {
+		mustCall(d.t, d.s, id)
+		d.m.call(id)
+	})
+}
+
+// watch sees to it that nothing wounds the eldest that lives: P12.
+func (d *drawn) watch(what string, do func()) {
 	d.t.Helper()
 	eldest := d.m.txns[d.living()[0]-1]
 	was := eldest.Wounded
-	if did, e := d.s.Step(id); e != api.OK || did != d.m.step(id) {
-		d.t.Fatalf("step of %d: %d, %d: not so in the model", id, did, e)
+	do()
+	d.compare(what)
+	if x, _ := d.s.Txn(eldest.id); x.Wounded && !was {
+		d.t.Fatalf("P12: %s: the eldest, %d, is wounded", what, eldest.id)
 	}
+}
+
+// compare holds all that is to be seen against the model, and against what is promised of every state.
+func (d *drawn) compare(what string) {
+	d.t.Helper()
 	for _, x := range d.m.txns {
 		if got, e := d.s.Txn(x.id); e != api.OK || !sameTxn(got, x.Txn) {
-			d.t.Fatalf("step of %d: Txn(%d) = %+v, %d, want %+v", id, x.id, got, e, x.Txn)
+			d.t.Fatalf("%s: Txn(%d) = %+v, %d, want %+v", what, x.id, got, e, x.Txn)
 		}
 	}
 	if rows := d.s.Rows(); !slices.Equal(rows, d.m.told()) {
-		d.t.Fatalf("step of %d: Rows() = %v, want %v", id, rows, d.m.told())
+		d.t.Fatalf("%s: Rows() = %v, want %v", what, rows, d.m.told())
 	}
 	if wins := d.s.Wins(); !slices.Equal(wins, d.m.wins) {
-		d.t.Fatalf("step of %d: Wins() = %v, want %v", id, wins, d.m.wins)
+		d.t.Fatalf("%s: Wins() = %v, want %v", what, wins, d.m.wins)
 	}
 	for _, key := range d.keys {
 		at := d.m.line(key)
 		mustHaveLocks(d.t, d.s, key, written(at.holders), written(at.queue))
 		d.nobodyWaitsForAYoungerOne(key)
 	}
-	if x, _ := d.s.Txn(eldest.id); x.Wounded && !was {
-		d.t.Fatalf("P12: step of %d: the eldest, %d, is wounded", id, eldest.id)
-	}
 	if d.t.Failed() {
-		d.t.FailNow()
+		d.t.Fatalf("that was behind the %s", what)
 	}
 }
 
@@ -156,21 +187,34 @@ func (d *drawn) oneBehindTheOther() {
 	mustHaveRows(d.t, d.s, alone.Rows())
 }
 
-// Steps of transactions in an order that is drawn, some of them admitted while others run; then rounds up to the end.
+// turn is what is done next: mostly a step, now and then one more is admitted, or one is called off.
+func (d *drawn) turn() {
+	d.t.Helper()
+	living := d.living()
+	if len(living) == 0 || len(living) < api.MaxTxns && d.r.IntN(8) == 0 {
+		d.admit()
+		return
+	}
+	id := living[d.r.IntN(len(living))]
+	if d.r.IntN(16) == 0 {
+		d.called[d.m.txns[id-1].at()]++
+		d.call(id)
+		return
+	}
+	d.step(id)
+}
+
+// Steps of transactions in an order that is drawn, some of them admitted or called off while others run; then rounds up to the end.
 func TestDrawnTransactions(t *testing.T) {
-	ends, agains := map[int]int{}, 0
+	ends, agains, called := map[int]int{}, 0, map[at]int{}
 	for seed := range uint64(300) {
 		d := draw(t, seed)
+		d.called = called
 		for range 1 + d.r.IntN(api.MaxTxns) {
 			d.admit()
 		}
 		for range d.r.IntN(150) {
-			living := d.living()
-			if len(living) == 0 || len(living) < api.MaxTxns && d.r.IntN(8) == 0 {
-				d.admit()
-				continue
-			}
-			d.step(living[d.r.IntN(len(living))])
+			d.turn()
 		}
 		d.rounds()
 		d.oneBehindTheOther()
@@ -180,7 +224,17 @@ func TestDrawnTransactions(t *testing.T) {
 		}
 	}
 	// What is not drawn is not tested.
-	if ends[api.Won] < 50 || ends[api.Gave] < 50 || ends[api.Fell] < 50 || agains < 50 {
-		t.Errorf("too few were drawn: %v, %d began again", ends, agains)
+	for _, state := range []int{api.Won, api.Gave, api.Fell, api.Called} {
+		if ends[state] < 50 {
+			t.Errorf("too few were drawn that end in the state %d: %v", state, ends)
+		}
+	}
+	for _, when := range []at{{}, {wounded: true}, {waiting: true}, {wounded: true, waiting: true}} {
+		if called[when] < 20 {
+			t.Errorf("too few were called off when they were %+v: %v", when, called)
+		}
+	}
+	if agains < 50 {
+		t.Errorf("only %d began again", agains)
 	}
 }

@@ -24,28 +24,37 @@ func calls() map[string]func(s *Store, n int) {
 	}
 }
 
+// A call that is refused waits, too: what it was refused for is looked at behind the mutex.
 func TestEachCallWaitsForTheMutex(t *testing.T) {
 	for name, call := range calls() {
-		s := busy(t, 1)
-		var done atomic.Bool
-		begun, ended := make(chan int), make(chan int)
-		s.mutex.Lock()
-		go func() {
-			close(begun)
-			call(s, 1)
-			done.Store(true)
-			close(ended)
-		}()
-		<-begun
-		for range 2000 {
-			runtime.Gosched()
+		for _, n := range []int{1, -1} {
+			s := busy(t, 1)
+			s.mutex.Lock()
+			if endsEarly(s, func() { call(s, n) }) {
+				t.Errorf("%s(%d) does not wait for the mutex", name, n)
+			}
 		}
-		if done.Load() {
-			t.Errorf("%s does not wait for the mutex", name)
-		}
-		s.mutex.Unlock()
-		<-ended
 	}
+}
+
+// endsEarly tells whether a call ended while the mutex was locked, and unlocks it, so that the call ends in any case.
+func endsEarly(s *Store, call func()) bool {
+	var done atomic.Bool
+	begun, ended := make(chan int), make(chan int)
+	go func() {
+		close(begun)
+		call()
+		done.Store(true)
+		close(ended)
+	}()
+	<-begun
+	for range 2000 {
+		runtime.Gosched()
+	}
+	early := done.Load()
+	s.mutex.Unlock()
+	<-ended
+	return early
 }
 
 // With good numbers and bad ones, so that the ways out by an error are gone, too.
@@ -128,4 +137,34 @@ func TestStepsOfSeveralGoroutines(t *testing.T) {
 	if s.values[0] != 2+api.MaxTxns || len(s.wins) != api.MaxTxns || s.living != 0 {
 		t.Errorf("the row 0 has %d; %v committed; %d live", s.values[0], s.wins, s.living)
 	}
+}
+
+// Several goroutines call the same ones off, while others step them: each is called off once, or has committed.
+func TestCallsOffOfSeveralGoroutines(t *testing.T) {
+	const workers = 4
+	s := busy(t, 0)
+	for range api.MaxTxns {
+		s.Admit([]api.Op{{Kind: api.Read, A: 0, B: 3}, {Kind: api.Add, A: 3, B: 0, C: 1}, {Kind: api.Write, A: 0, B: 3}})
+	}
+	var calledOff atomic.Int64
+	var group sync.WaitGroup
+	for range workers {
+		group.Go(func() {
+			for range 20 {
+				for id := 1; id <= api.MaxTxns; id++ {
+					s.Step(id)
+				}
+			}
+			for id := 1; id <= api.MaxTxns; id++ {
+				if s.Call(id) == api.OK {
+					calledOff.Add(1)
+				}
+			}
+		})
+	}
+	group.Wait()
+	if won := len(s.wins); s.values[0] != 2+won || won+int(calledOff.Load()) != api.MaxTxns {
+		t.Errorf("the row 0 has %d; %d committed; %d were called off", s.values[0], won, calledOff.Load())
+	}
+	mustBeEmpty(t, s)
 }

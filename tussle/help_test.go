@@ -105,6 +105,20 @@ func mustNotStep(t *testing.T, s *tussle.Store, id int, want api.Errno) {
 	}
 }
 
+func mustCall(t *testing.T, s *tussle.Store, id int) {
+	t.Helper()
+	if e := s.Call(id); e != api.OK {
+		t.Fatalf("Call(%d) = %d, want OK", id, e)
+	}
+}
+
+func mustNotCall(t *testing.T, s *tussle.Store, id int, want api.Errno) {
+	t.Helper()
+	if e := s.Call(id); e != want {
+		t.Errorf("Call(%d) = %d, want %d", id, e, want)
+	}
+}
+
 // written writes locks as numbers with S for Shared, W for Whole.
 func written(locks []api.Lock) string {
 	var words []string

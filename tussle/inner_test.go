@@ -78,6 +78,8 @@ func tussled(t *testing.T) *Store {
 func TestAnErrorChangesNothing(t *testing.T) {
 	late := busy(t, 2)
 	late.Tick(api.MaxClock - late.clock)
+	called := tussled(t)
+	called.Call(3)
 	right := []api.Op{{Kind: api.Delete}}
 	for _, c := range []struct {
 		what string
@@ -101,6 +103,13 @@ func TestAnErrorChangesNothing(t *testing.T) {
 		{"Step of the least", tussled(t), api.ErrTxn, func(s *Store) api.Errno { return stepped(s, math.MinInt) }},
 		{"Step of one that committed", tussled(t), api.ErrEnded, func(s *Store) api.Errno { return stepped(s, 1) }},
 		{"Step of one that stopped", tussled(t), api.ErrEnded, func(s *Store) api.Errno { return stepped(s, 2) }},
+		{"Step of one that was called off", called, api.ErrEnded, func(s *Store) api.Errno { return stepped(s, 3) }},
+		{"Call of none", tussled(t), api.ErrTxn, func(s *Store) api.Errno { return s.Call(8) }},
+		{"Call of 0", tussled(t), api.ErrTxn, func(s *Store) api.Errno { return s.Call(0) }},
+		{"Call of the least", tussled(t), api.ErrTxn, func(s *Store) api.Errno { return s.Call(math.MinInt) }},
+		{"Call of one that committed", tussled(t), api.ErrEnded, func(s *Store) api.Errno { return s.Call(1) }},
+		{"Call of one that stopped", tussled(t), api.ErrEnded, func(s *Store) api.Errno { return s.Call(2) }},
+		{"Call of one that was called off", called, api.ErrEnded, func(s *Store) api.Errno { return s.Call(3) }},
 	} {
 		before := keptBy(c.s)
 		if e := c.call(c.s); e != c.want {
@@ -230,6 +239,25 @@ func TestNothingIsLeftOfThoseThatEnded(t *testing.T) {
 			s.Step(id + 1)
 		}
 	}
+	mustBeEmpty(t, s)
+}
+
+func TestNothingIsLeftOfThoseThatWereCalledOff(t *testing.T) {
+	for _, order := range [][]int{{3, 4, 5, 6, 7}, {7, 6, 5, 4, 3}, {5, 4, 6, 3, 7}, {6, 3, 4, 7, 5}} {
+		s := tussled(t)
+		for _, id := range order {
+			s.Call(id)
+		}
+		mustBeEmpty(t, s)
+		if want := map[int]int{math.MinInt: 1, 0: 2, math.MaxInt: 3}; !maps.Equal(s.values, want) || s.clock != 107 {
+			t.Errorf("called off in the order %v: the rows %v, the clock %d", order, s.values, s.clock)
+		}
+	}
+}
+
+// mustBeEmpty: none lives, and only what is told of those that ended is kept.
+func mustBeEmpty(t *testing.T, s *Store) {
+	t.Helper()
 	if s.living != 0 || len(s.holds) != 0 || len(s.queues) != 0 {
 		t.Errorf("left: %d that live, %v held, %v waited for", s.living, s.holds, s.queues)
 	}

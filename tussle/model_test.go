@@ -78,6 +78,12 @@ func (m *model) step(id int) int {
 	return api.Did
 }
 
+func (m *model) call(id int) {
+	x := m.txns[id-1]
+	m.undo(x)
+	x.State = api.Called
+}
+
 // ask answers Did if the operation may be done.
 func (m *model) ask(x *modelTxn, op api.Op) int {
 	mine := api.Lock{Txn: x.id, Mode: api.Whole}

@@ -72,6 +72,11 @@ func (s *Store) Step(id int) (int, api.Errno) {
 func (s *Store) Call(id int) api.Errno {
 	s.mutex.Lock()
 	defer s.mutex.Unlock()
+	t, e := s.findLiving(id)
+	if e != api.OK {
+		return e
+	}
+	s.fail(t, api.Called)
 	return api.OK
 }
 
